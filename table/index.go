@@ -4,6 +4,7 @@ import (
 	"bytes"
 
 	"usance/api"
+	"usance/entry"
 	"usance/frame"
 	"usance/varint"
 )
@@ -47,7 +48,7 @@ func tableOf(data []byte) (*Table, bool) {
 		return nil, false
 	}
 	index, at, ok := indexAt(data, at, n)
-	if !ok || len(index) == 0 || !mayStand(index) {
+	if !ok || len(index) == 0 || !entry.MayStand(index) {
 		return nil, false
 	}
 	t := &Table{data: data, greatest: greatest, blocks: map[place][]api.Entry{}}
@@ -130,12 +131,12 @@ func (t *Table) read(i int) ([]api.Entry, bool) {
 // fits tells whether the entries are as many as the block's row tells, begin as it tells, and end ahead of the next block, the last one with the greatest key.
 func (t *Table) fits(i int, entries []api.Entry) bool {
 	r := t.rows[i]
-	if len(entries) != r.count || order(entries[0], r.first) != 0 {
+	if len(entries) != r.count || entry.Order(entries[0], r.first) != 0 {
 		return false
 	}
 	last := entries[len(entries)-1]
 	if i+1 < len(t.rows) {
-		return order(last, t.rows[i+1].first) < 0
+		return entry.Order(last, t.rows[i+1].first) < 0
 	}
 	return bytes.Equal(last.Key, t.greatest)
 }

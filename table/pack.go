@@ -1,8 +1,11 @@
 package table
 
 import (
+	"bytes"
+
 	"usance/api"
 	"usance/block"
+	"usance/entry"
 	"usance/frame"
 	"usance/varint"
 )
@@ -46,6 +49,15 @@ func pack(entries []api.Entry) []byte {
 	return framed(append(varint.AppendBytes(nil, keys), versions...))
 }
 
+// sameKey answers how many of the entries, from the first on, have its key.
+func sameKey(entries []api.Entry) int {
+	n := 0
+	for n < len(entries) && bytes.Equal(entries[n].Key, entries[0].Key) {
+		n++
+	}
+	return n
+}
+
 // packed answers what is told of an entry beside its key.
 func packed(e api.Entry) []byte {
 	head := uint64(e.Seq) << 1
@@ -81,7 +93,7 @@ func unpack(payload []byte) ([]api.Entry, bool) {
 			at = next
 		}
 	}
-	return entries, at == len(payload) && mayStand(entries)
+	return entries, at == len(payload) && entry.MayStand(entries)
 }
 
 // versionAt answers the entry, but for its key, that stands in b at a place, and the place behind it.
