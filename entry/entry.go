@@ -8,7 +8,8 @@ import (
 	"usance/api"
 )
 
-const mostSeq = 1 << 40 // the greatest sequence number of an entry
+// MostSeq is the greatest sequence number of an entry.
+const MostSeq = 1 << 40
 
 // Order is below, at or above nought as x stands ahead of y in a list, at its place, or behind it.
 func Order(x, y api.Entry) int {
@@ -27,7 +28,7 @@ func MayStand(entries []api.Entry) bool {
 
 // MayBe tells whether there may be such an entry in a list.
 func MayBe(e api.Entry) bool {
-	if len(e.Key) == 0 || len(e.Key) > api.MaxKey || e.Seq < 1 || e.Seq > mostSeq {
+	if len(e.Key) == 0 || len(e.Key) > api.MaxKey || e.Seq < 1 || e.Seq > MostSeq {
 		return false
 	}
 	if e.Dead {
